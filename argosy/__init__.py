@@ -1,0 +1,1 @@
+"""Argosy: boats refitted timber by timber, and which of them is which."""
