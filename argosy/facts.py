@@ -2,7 +2,7 @@
 
 from argosy.bounds import MOST_BOATS, MOST_TIMBERS, is_name, is_timber
 
-MOST_COINS = 10 ** 6
+MOST_COINS = 1000000
 
 
 def is_number(thing):
