@@ -235,6 +235,18 @@ class ThePackage(unittest.TestCase):
             with self.subTest(name):
                 self.assertEqual(faults_of(source_of(name), own), [])
 
+    def test_no_name_is_a_method_and_a_value(self):
+        trees = [ast.parse(source_of(name)) for name in package_files()]
+        methods = {method.name for tree in trees for method in methods_in(tree)}
+        values = {value for tree in trees for value in values_in(tree)}
+        asked = {node.attr for tree in trees for node in ast.walk(tree) if isinstance(node, ast.Attribute)}
+        called = {
+            node.func.attr for tree in trees for node in ast.walk(tree)
+            if isinstance(node, ast.Call) and isinstance(node.func, ast.Attribute)
+        }
+        self.assertEqual(methods & values, set())
+        self.assertEqual(asked - called - values, set())
+
     def test_names_are_drawn_from_the_file_that_defines_them(self):
         for name in package_files():
             for source, drawn in drawn_from(name):
