@@ -1,8 +1,8 @@
 """The yard: timbers, boats and their names by days, as facts are entered."""
 
-from argosy.bounds import MOST_BOATS, MOST_TIMBERS, is_day, is_slip, name_of
+from argosy.bounds import MOST_BOATS, MOST_TIMBERS, name_of, need_day, need_slip
 from argosy.debts import Debts
-from argosy.errors import BadFact, BadNumber, Late, NoBoat, NoName, NoTimber
+from argosy.errors import BadFact, Late, NoBoat, NoName, NoTimber
 from argosy.facts import sound
 from argosy.likeness import paired, same
 from argosy.timbers import apart, rising
@@ -141,8 +141,7 @@ class Yard:
     """A yard of boats. The last pair of a line or a chain tells where a timber lies or what a boat is made of."""
 
     def __init__(self, slip):
-        if not is_slip(slip):
-            raise BadNumber("a slip is a number from 1 to 12")
+        need_slip(slip)
         self.most = slip
         self.day = 0
         self.lines = {}
@@ -152,8 +151,7 @@ class Yard:
 
     def enter(self, day, fact):
         """The word with which a fact is answered; BadNumber, BadFact, Late."""
-        if not is_day(day):
-            raise BadNumber("a day is a number from 1 to 400")
+        need_day(day)
         if not sound(self.most, fact):
             raise BadFact("the fact isn't sound for this slip")
         if day <= self.day:
@@ -164,8 +162,7 @@ class Yard:
 
     def pass_to(self, day):
         """The yard's day is that day; BadNumber, Late."""
-        if not is_day(day):
-            raise BadNumber("a day is a number from 1 to 400")
+        need_day(day)
         if day < self.day:
             raise Late("the day is earlier than the yard's")
         self.day = day

@@ -1,10 +1,22 @@
-"""What the tests of the yard share: all that a yard tells, a plain yard to compare it with, and facts drawn by lot."""
+"""What the tests share: all that a yard tells, a plain yard to compare it with, and facts drawn by lot."""
 
+import itertools
+import unittest
 from fractions import Fraction
 
 from argosy.yard import Yard
 
 BIG = 10 ** 30 - 1
+
+
+class Refusing(unittest.TestCase):
+    """Tests of calls that are refused."""
+
+    def assert_refused(self, refusal, *calls):
+        for call in calls:
+            with self.assertRaises(refusal) as refused:
+                call()
+            self.assertIs(type(refused.exception), refusal)
 
 
 def told(yard):
@@ -32,6 +44,16 @@ def kinds(thing):
     if type(thing) in (list, tuple):
         return (type(thing), [kinds(one) for one in thing])
     return type(thing)
+
+
+def some_of(things):
+    """All tuples of some of the things, none and all among them, in their order."""
+    return [row for many in range(len(things) + 1) for row in itertools.combinations(things, many)]
+
+
+def plainly_same(one, other):
+    both = [timber for timber in set(one) if timber in other]
+    return len(both) > 0 and 2 * len(both) > len(set(one)) and 2 * len(both) > len(set(other))
 
 
 def entered(yard, facts):

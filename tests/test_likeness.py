@@ -6,15 +6,10 @@ import unittest
 
 from argosy.errors import ArgosyError, BadFleet
 from argosy.likeness import paired, same
+from tests.plain import BIG, plainly_same
 
-BIG = 10 ** 30 - 1
 SMALL_LISTS = [list(row) for many in range(5) for row in itertools.product((-1, 0, 7), repeat=many)]
 SMALL_BOATS = [list(row) for many in range(1, 6) for row in itertools.combinations((1, 2, 3, 4, 5), many)]
-
-
-def plainly_same(one, other):
-    both = [timber for timber in set(one) if timber in other]
-    return len(both) > 0 and 2 * len(both) > len(set(one)) and 2 * len(both) > len(set(other))
 
 
 def some_fleet(chance, timbers, boats):
