@@ -1,9 +1,11 @@
-"""What the tests share: all that a yard tells, a plain yard to compare it with, and facts drawn by lot."""
+"""What the tests share: all that a yard and a diary tell, a plain yard to compare it with, and facts drawn by lot."""
 
 import itertools
 import unittest
 from fractions import Fraction
 
+from argosy.diary import Diary
+from argosy.errors import NoDeed
 from argosy.yard import Yard
 
 BIG = 10 ** 30 - 1
@@ -30,6 +32,35 @@ def told(yard):
         "owed": ([(name, yard.owed(name)) for name in names], [(one, yard.owed_on(one)) for one in timbers]),
         "money": (yard.owed_all(), yard.lent(), yard.paid()),
     }
+
+
+def told_of(diary):
+    """All that a diary tells of its deeds, and what could be done again, last taken back first."""
+    other, again = diary.twin(), []
+    while True:
+        try:
+            other.redo()
+        except NoDeed:
+            return (diary.slip(), diary.deeds(), diary.facts(), again)
+        again.append(other.deeds()[-1])
+
+
+def diary_of(facts, slip=12):
+    """A diary that was told pairs of a day and a fact."""
+    diary = Diary(slip)
+    for day, fact in facts:
+        diary.tell(day, fact)
+    return diary
+
+
+def yard_that_heard(slip, facts, day):
+    """A new yard that heard those of the facts, pairs (day, fact), up to a day, and passed on to it."""
+    yard = Yard(slip)
+    for known, fact in sorted(facts, key=lambda pair: pair[0]):
+        if known <= day:
+            yard.enter(known, fact)
+    yard.pass_to(day)
+    return yard
 
 
 def told_by_a_yard_that_passed_to(day, wished):
@@ -328,3 +359,12 @@ def some_fact(chance, yard):
         return ("pay", name, max(1, min(10 ** 6, owed[0] // owed[1] + chance.choice([-1, 0, 0, 1]))))
     owing = [timber for timber in range(1, yard.felled() + 1) if yard.owed_on(timber) != (0, 1)]
     return ("clear", chance.choice(owing) if owing and chance.randrange(3) else chance.randint(1, 60))
+
+
+def drawn_facts(chance, slip, days):
+    """Pairs (day, fact) for these days, rising, each fact drawn by what is there then."""
+    yard, facts = Yard(slip), []
+    for day in days:
+        facts.append((day, some_fact(chance, yard)))
+        yard.enter(*facts[-1])
+    return facts
